@@ -49,6 +49,24 @@ func expect[T any](t *testing.T, got T, want T, label string, args ...any) {
 	}
 }
 
+// eachChange gives check the text cut off at each place, and with each byte removed, changed and added.
+func eachChange(text string, check func(text string)) {
+	for i := range len(text) + 1 {
+		check(text[:i])
+		check(text[i:])
+		if i < len(text) {
+			check(text[:i] + text[i+1:])
+		}
+		for b := range 256 {
+			added := string([]byte{byte(b)})
+			check(text[:i] + added + text[i:])
+			if i < len(text) {
+				check(text[:i] + added + text[i+1:])
+			}
+		}
+	}
+}
+
 func isZeroFamily(f impl.Family) bool {
 	return len(f.People) == 0 && len(f.Unions) == 0
 }

@@ -69,15 +69,7 @@ func TestP2ChangedTexts(t *testing.T) {
 			accepted++
 		}
 	}
-	for i := range len(text) {
-		check(text[:i])
-		check(text[i:])
-		check(text[:i] + text[i+1:])
-		for b := range 256 {
-			check(text[:i] + string([]byte{byte(b)}) + text[i+1:])
-			check(text[:i] + string([]byte{byte(b)}) + text[i:])
-		}
-	}
+	eachChange(text, check)
 	if accepted < 100 {
 		t.Errorf("%d changed texts are read", accepted)
 	}

@@ -116,17 +116,7 @@ func TestP2ChangedTypeTexts(t *testing.T) {
 		}
 	}
 	for _, text := range []string{"m:FeZHyBSDWM", "w:HWHWHWHW", "eByZeByZeByZeBF", "m:.", "."} {
-		for i := range len(text) + 1 {
-			check(text[:i])
-			check(text[i:])
-			for b := range 256 {
-				check(text[:i] + string([]byte{byte(b)}) + text[i:])
-				if i < len(text) {
-					check(text[:i] + text[i+1:])
-					check(text[:i] + string([]byte{byte(b)}) + text[i+1:])
-				}
-			}
-		}
+		eachChange(text, check)
 	}
 	if accepted < 100 {
 		t.Errorf("%d changed texts are read", accepted)

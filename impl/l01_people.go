@@ -370,18 +370,24 @@ func yearText(year int) string {
 
 func ParseFamily(s string) (Family, bool) {
 	var f Family
-	for rest := s; rest != ""; {
-		line, after, ended := strings.Cut(rest, "\n")
-		if !ended || !addLine(&f, line) {
-			return Family{}, false
-		}
-		rest = after
-	}
+	read := readLines(s, func(line string) bool { return addLine(&f, line) })
 	// This also refuses families that are not valid, and persons behind unions.
-	if FormatFamily(f) != s {
+	if !read || FormatFamily(f) != s {
 		return Family{}, false
 	}
 	return f, true
+}
+
+// readLines gives each line of a text to add, until add refuses one, and reports whether all are accepted and end with a newline.
+func readLines(s string, add func(line string) bool) bool {
+	for s != "" {
+		line, rest, ended := strings.Cut(s, "\n")
+		if !ended || !add(line) {
+			return false
+		}
+		s = rest
+	}
+	return true
 }
 
 func addLine(f *Family, line string) bool {

@@ -78,6 +78,33 @@ func copyOf(f impl.Family) impl.Family {
 	}
 }
 
+// notFamilies returns families that are not valid: the house after changes.
+func notFamilies(t *testing.T) []impl.Family {
+	t.Helper()
+	changes := []func(f *impl.Family){
+		func(f *impl.Family) { f.People[10].Name = "adam" },
+		func(f *impl.Family) { f.People[10].Sex = 7 },
+		func(f *impl.Family) { f.People[9].Father = 99 },
+		func(f *impl.Family) { f.People[9].Mother = lowest },
+		func(f *impl.Family) { f.People[3].Mother = 3 },
+		func(f *impl.Family) { f.People[10].Born = -1 },
+		func(f *impl.Family) { f.People[10].Died = 3 },
+		func(f *impl.Family) { f.Unions[3].Man = 99 },
+		func(f *impl.Family) { f.Unions[3].Woman = -1 },
+		func(f *impl.Family) { f.Unions[3].To = 3 },
+		func(f *impl.Family) { f.Unions[3] = f.Unions[0] },
+		func(f *impl.Family) { f.Unions = append(f.Unions, make([]impl.Union, 60)...) },
+		func(f *impl.Family) { f.People = append(f.People, make([]impl.Person, 40)...) },
+	}
+	list := []impl.Family{}
+	for _, change := range changes {
+		f := copyOf(parse(t, house))
+		change(&f)
+		list = append(list, f)
+	}
+	return list
+}
+
 // The functions below say again, in the plainest way, what the document says of a family.
 
 func wantName(s string) bool {

@@ -36,20 +36,7 @@ func TestP13NoSuchKin(t *testing.T) {
 }
 
 func TestP13KinOfFamiliesThatAreNotValid(t *testing.T) {
-	changes := []func(f *impl.Family){
-		func(f *impl.Family) { f.People[10].Name = "adam" },
-		func(f *impl.Family) { f.People[10].Sex = 7 },
-		func(f *impl.Family) { f.People[9].Father = 99 },
-		func(f *impl.Family) { f.People[9].Mother = lowest },
-		func(f *impl.Family) { f.People[10].Born = -1 },
-		func(f *impl.Family) { f.Unions[3].Man = 99 },
-		func(f *impl.Family) { f.Unions[3].Woman = -1 },
-		func(f *impl.Family) { f.Unions[3] = f.Unions[0] },
-		func(f *impl.Family) { f.People = append(f.People, make([]impl.Person, 40)...) },
-	}
-	for i, change := range changes {
-		f := copyOf(parse(t, house))
-		change(&f)
+	for i, f := range notFamilies(t) {
 		label := fmt.Sprint("after change ", i)
 		for _, k := range typesUpTo(1) {
 			expect(t, isZeroRelation(impl.RelationFor(f, k)), true, "RelationFor %s", label)

@@ -135,6 +135,11 @@ func wantRewritten(rules []impl.Rule, k impl.KinType) (impl.KinType, int, int) {
 	if !wantRules(rules) || !wantType(k) {
 		return impl.KinType{}, -1, 0
 	}
+	return wantFirst(rules, k)
+}
+
+// wantFirst is asked for rules and types that are valid.
+func wantFirst(rules []impl.Rule, k impl.KinType) (impl.KinType, int, int) {
 	for i := range k.Steps {
 		for j, r := range rules {
 			if wantPlaced(r, k, i) {

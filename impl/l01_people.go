@@ -224,13 +224,18 @@ func ChildrenOf(f Family, p int) []int {
 }
 
 func eldestFirst(f Family, wanted func(q int) bool) []int {
+	list := peopleWhere(f, wanted)
+	slices.SortFunc(list, func(a int, b int) int { return compareAge(f, a, b) })
+	return list
+}
+
+func peopleWhere(f Family, wanted func(q int) bool) []int {
 	var list []int
 	for q := range f.People {
 		if wanted(q) {
 			list = append(list, q)
 		}
 	}
-	slices.SortFunc(list, func(a int, b int) int { return compareAge(f, a, b) })
 	return list
 }
 

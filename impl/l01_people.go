@@ -328,6 +328,10 @@ func MarriedAt(f Family, p int, year int) []int {
 	if !hasPerson(f, p) {
 		return nil
 	}
+	return partnersAt(f, p, year)
+}
+
+func partnersAt(f Family, p int, year int) []int {
 	return partnersIn(f, p, func(u Union) bool {
 		end, ended := endOf(f, u)
 		return u.From <= year && (!ended || end > year)
